@@ -1,0 +1,1 @@
+"""Polls whose options change while votes stand."""

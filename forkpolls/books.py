@@ -1,0 +1,192 @@
+"""Books: what becomes of votes, written in rows."""
+
+from forkpolls.checks import all_differ, is_integer, is_name, is_sequence
+from forkpolls.errors import InvalidBook, InvalidText, NoMark, NoRow
+from forkpolls.rows import Join, Part, Row, Step
+
+EDITS = ("back", "cut", "join", "part", "word")
+
+HEADS = ("marks", "counted", "keeps")
+
+
+class Book:
+    """Marks, which of them are counted, which edits keep the meaning, and rows."""
+
+    def __init__(self, marks, counted, keeps, rows):
+        _refuse_wrong(marks, counted, keeps, rows)
+        self.marks = tuple(marks)
+        self.counted = tuple([mark for mark in marks if mark in counted])
+        self.keeps = tuple(sorted(keeps))
+        self.rows = tuple(rows)
+        self.blank = marks[0]
+
+    def __eq__(self, other):
+        return isinstance(other, Book) and str(self) == str(other)
+
+    def __str__(self):
+        return "\n".join(_lines(self))
+
+    def __len__(self):
+        return len(self.rows)
+
+    def __getitem__(self, at):
+        if not _is_place(self.rows, at):
+            raise NoRow(at)
+        return self.rows[at]
+
+    def __iter__(self):
+        raise TypeError("a book is not iterable")
+
+    @classmethod
+    def read(cls, text):
+        """Return the book with this text."""
+        if not isinstance(text, str):
+            raise InvalidText(0)
+        lines = text.split("\n")
+        heads = [_head(at, line) for at, line in enumerate(lines[:3])]
+        if len(heads) < 3:
+            raise InvalidText(len(heads))
+        rows = [_row(at, line) for at, line in enumerate(lines) if at >= 3]
+        return cls(heads[0], heads[1], heads[2], rows)
+
+    def step(self, kind, mark):
+        """Return what the mark becomes at this kind of step, and what is added."""
+        _refuse_other_marks(self.marks, (mark,))
+        for row in self.rows:
+            if isinstance(row, Step) and row.kind == kind and _fits(row.old, mark):
+                return _or_same(row.then, mark), row.add
+        return mark, 0
+
+    def joined(self, here, there):
+        """Return what two marks become at a joining, and what is added."""
+        _refuse_other_marks(self.marks, (here, there))
+        for row in self.rows:
+            if isinstance(row, Join) and _fits(row.here, here) and _fits(row.there, there):
+                return _of_both(row.then, here, there), row.add
+        return here, 0
+
+    def parted(self, mark):
+        """Return what the mark becomes left and right, and what is added to both."""
+        _refuse_other_marks(self.marks, (mark,))
+        for row in self.rows:
+            if isinstance(row, Part) and _fits(row.old, mark):
+                return _or_same(row.left, mark), _or_same(row.right, mark), row.add, row.more
+        return mark, self.blank, 0, 0
+
+    def without(self, at):
+        """Return the book without the row with this number."""
+        if not _is_place(self.rows, at):
+            raise NoRow(at)
+        return Book(self.marks, self.counted, self.keeps, self.rows[:at] + self.rows[at + 1:])
+
+    def asking(self, kinds):
+        """Return the book that asks voters anew at these edits."""
+        asked = sorted(set(kinds))
+        keeps = [word for word in self.keeps if word not in asked]
+        rows = [row for kind in asked for row in _asking_rows(self, kind)]
+        return Book(self.marks, self.counted, keeps, [*rows, *self.rows])
+
+
+def _refuse_wrong(marks, counted, keeps, rows):
+    """Raise InvalidBook for the first argument that is wrong, then for a mark."""
+    if not _are_marks(marks):
+        raise InvalidBook("marks")
+    if not _are_words_of(counted, marks[1:]):
+        raise InvalidBook("counted")
+    if not _are_words_of(keeps, EDITS):
+        raise InvalidBook("keeps")
+    if not is_sequence(rows) or not all([isinstance(row, Row) for row in rows]):
+        raise InvalidBook("rows")
+    if not all([mark in marks for row in rows for mark in row.named()]):
+        raise InvalidBook("mark")
+
+
+def _are_marks(value):
+    """Return whether the value is a sequence of different names, at least one."""
+    if not is_sequence(value) or not all([is_name(mark) for mark in value]):
+        return False
+    return len(value) > 0 and all_differ(value)
+
+
+def _are_words_of(value, words):
+    """Return whether the value is a sequence of some of the words, all different."""
+    if not is_sequence(value) or not all([word in words for word in value]):
+        return False
+    return all_differ(value)
+
+
+def _lines(book):
+    """Return the lines of the book's text."""
+    marks = " ".join(["marks", *book.marks])
+    counted = " ".join(["counted", *book.counted])
+    keeps = " ".join(["keeps", *book.keeps])
+    return [marks, counted, keeps, *[str(row) for row in book.rows]]
+
+
+def _is_place(rows, at):
+    """Return whether a row has this number."""
+    return is_integer(at) and 0 <= at < len(rows)
+
+
+def _head(at, line):
+    """Return the words behind the first one of a heading line."""
+    words = line.split(" ")
+    if words[0] != HEADS[at] or not _can_stand(at, words[1:]):
+        raise InvalidText(at)
+    return words[1:]
+
+
+def _can_stand(at, words):
+    """Return whether the words can stand in the heading line with this number."""
+    if at == 2:
+        return all([word in EDITS for word in words])
+    # Only the first line cannot be without names.
+    return (at > 0 or len(words) > 0) and all([is_name(word) for word in words])
+
+
+def _row(at, line):
+    """Return the row that stands in the line with this number."""
+    try:
+        return Row.read(line)
+    except InvalidText:
+        raise InvalidText(at) from None
+
+
+def _refuse_other_marks(marks, values):
+    """Raise NoMark for the first value that is none of the marks."""
+    for value in values:
+        if value not in marks:
+            raise NoMark(value)
+
+
+def _fits(pattern, mark):
+    """Return whether a row with this pattern tells what becomes of the mark."""
+    return pattern == "any" or pattern == mark
+
+
+def _or_same(then, mark):
+    """Return the mark that a row tells by a name or by `same`."""
+    if then == "same":
+        return mark
+    return then
+
+
+def _of_both(then, here, there):
+    """Return the mark that a row tells by a name, by `one` or by `other`."""
+    if then == "one":
+        return here
+    if then == "other":
+        return there
+    return then
+
+
+def _asking_rows(book, kind):
+    """Return the rows by which this kind of edit makes each mark the blank."""
+    blank = book.blank
+    taken = {mark: -1 if mark in book.counted else 0 for mark in book.marks}
+    if kind == "join":
+        pairs = [(here, there) for here in book.marks for there in book.marks]
+        return [Join(here, there, blank, taken[here] + taken[there]) for here, there in pairs]
+    if kind == "part":
+        return [Part(mark, blank, blank, taken[mark], 0) for mark in book.marks]
+    return [Step(kind, mark, blank, taken[mark]) for mark in book.marks]

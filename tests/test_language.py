@@ -1,0 +1,101 @@
+"""The rules of ../shared/LANGUAGE.md that a plain look at the files can tell."""
+
+import ast
+import pathlib
+import unittest
+
+ROOT = pathlib.Path(__file__).resolve().parent.parent
+FILES = sorted((ROOT / "forkpolls").rglob("*.py"))
+
+BUILTINS = {
+    "len", "range", "enumerate", "zip", "min", "max", "sum", "abs", "sorted", "reversed", "int", "str", "bool", "list",
+    "tuple", "dict", "set", "isinstance", "ord", "repr", "any", "all", "divmod", "ValueError", "TypeError", "KeyError",
+    "IndexError", "classmethod", "property",
+}
+
+LIBRARY = {"heapq", "math", "itertools", "collections"}
+
+DUNDERS = {
+    "__init__", "__eq__", "__str__", "__len__", "__getitem__", "__iter__", "__enter__", "__exit__",
+}
+
+BARRED = (ast.Global, ast.AsyncFunctionDef, ast.Import)
+
+# Where a class has `__eq__`, these take lists (L7).
+TAKE_LISTS = {"any", "all", "min", "max", "sum", "sorted"}
+
+
+def nodes():
+    """Return a list of the files and all parts of their syntax trees."""
+    return [(path, node) for path in FILES for node in ast.walk(ast.parse(path.read_text("utf-8")))]
+
+
+def bound_names(tree):
+    """Return all names that a tree binds, at whatever depth."""
+    found = {node.id for node in ast.walk(tree) if isinstance(node, ast.Name) and isinstance(node.ctx, ast.Store)}
+    found |= {node.arg for node in ast.walk(tree) if isinstance(node, ast.arg)}
+    found |= {node.name for node in ast.walk(tree) if isinstance(node, (ast.FunctionDef, ast.ClassDef))}
+    for node in ast.walk(tree):
+        if isinstance(node, ast.ImportFrom):
+            found |= {alias.name for alias in node.names}
+    return found
+
+
+class Language(unittest.TestCase):
+    def test_sizes_and_characters(self):
+        self.assertIn(ROOT / "forkpolls" / "__init__.py", FILES)
+        for path in FILES:
+            text = path.read_text("utf-8")
+            self.assertTrue(all(" " <= letter <= "~" or letter == "\n" for letter in text), path)
+            self.assertLessEqual(len(text.splitlines()), 399, path)
+            self.assertLessEqual(max(map(len, text.splitlines())), 120, path)
+
+    def test_functions_are_small(self):
+        for path, node in nodes():
+            if isinstance(node, ast.FunctionDef):
+                self.assertLessEqual(node.end_lineno - node.lineno + 1, 40, (path, node.name))
+
+    def test_the_package_holds_only_its_files(self):
+        held = [path for path in (ROOT / "forkpolls").rglob("*") if "__pycache__" not in path.parts and not path.is_dir()]
+        self.assertEqual(sorted(held), FILES)
+
+    def test_imports(self):
+        for path, node in nodes():
+            if isinstance(node, ast.ImportFrom):
+                self.assertEqual(node.level, 0, path)
+                self.assertTrue(node.module.startswith("forkpolls.") or node.module in LIBRARY, (path, node.module))
+                self.assertTrue(all(alias.asname is None and alias.name != "*" for alias in node.names), path)
+
+    def test_names_are_read_from_the_file_that_binds_them(self):
+        for path in FILES:
+            tree = ast.parse(path.read_text("utf-8"))
+            known = bound_names(tree) | BUILTINS
+            for node in ast.walk(tree):
+                if isinstance(node, ast.Name):
+                    self.assertIn(node.id, known, path)
+            for name in bound_names(tree):
+                self.assertTrue(name in DUNDERS or not name.startswith("__"), (path, name))
+
+    def test_barred_statements_and_expressions(self):
+        for path, node in nodes():
+            self.assertNotIsInstance(node, BARRED, (path, getattr(node, "lineno", 0)))
+            if isinstance(node, ast.Constant):
+                self.assertNotIsInstance(node.value, (float, complex), path)
+            if isinstance(node, ast.BinOp):
+                self.assertNotIsInstance(node.op, ast.Div, path)
+
+    def test_lists_instead_of_generator_expressions(self):
+        for path, node in nodes():
+            if isinstance(node, ast.Call) and isinstance(node.func, ast.Name) and node.func.id in TAKE_LISTS:
+                self.assertFalse(any(isinstance(arg, ast.GeneratorExp) for arg in node.args), (path, node.lineno))
+
+    def test_modules_hold_only_definitions(self):
+        for path in FILES:
+            for node in ast.parse(path.read_text("utf-8")).body:
+                docstring = isinstance(node, ast.Expr) and isinstance(node.value, ast.Constant)
+                kinds = (ast.ImportFrom, ast.FunctionDef, ast.ClassDef, ast.Assign)
+                self.assertTrue(docstring or isinstance(node, kinds), (path, node.lineno))
+
+
+if __name__ == "__main__":
+    unittest.main()
