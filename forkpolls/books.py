@@ -1,6 +1,6 @@
 """Books: what becomes of votes, written in rows."""
 
-from forkpolls.checks import all_differ, is_integer, is_name, is_sequence
+from forkpolls.checks import all_differ, is_name, is_place, is_sequence
 from forkpolls.errors import InvalidBook, InvalidText, NoMark, NoRow
 from forkpolls.rows import Join, Part, Row, Step
 
@@ -30,7 +30,7 @@ class Book:
         return len(self.rows)
 
     def __getitem__(self, at):
-        if not _is_place(self.rows, at):
+        if not is_place(at, self.rows):
             raise NoRow(at)
         return self.rows[at]
 
@@ -52,30 +52,33 @@ class Book:
     def step(self, kind, mark):
         """Return what the mark becomes at this kind of step, and what is added."""
         _refuse_other_marks(self.marks, (mark,))
-        for row in self.rows:
-            if isinstance(row, Step) and row.kind == kind and _fits(row.old, mark):
-                return _or_same(row.then, mark), row.add
-        return mark, 0
+        at = row_at_step(self.rows, kind, mark)
+        if at is None:
+            return mark, 0
+        row = self.rows[at]
+        return _or_same(row.then, mark), row.add
 
     def joined(self, here, there):
         """Return what two marks become at a joining, and what is added."""
         _refuse_other_marks(self.marks, (here, there))
-        for row in self.rows:
-            if isinstance(row, Join) and _fits(row.here, here) and _fits(row.there, there):
-                return _of_both(row.then, here, there), row.add
-        return here, 0
+        at = row_at_join(self.rows, here, there)
+        if at is None:
+            return here, 0
+        row = self.rows[at]
+        return _of_both(row.then, here, there), row.add
 
     def parted(self, mark):
         """Return what the mark becomes left and right, and what is added to both."""
         _refuse_other_marks(self.marks, (mark,))
-        for row in self.rows:
-            if isinstance(row, Part) and _fits(row.old, mark):
-                return _or_same(row.left, mark), _or_same(row.right, mark), row.add, row.more
-        return mark, self.blank, 0, 0
+        at = row_at_part(self.rows, mark)
+        if at is None:
+            return mark, self.blank, 0, 0
+        row = self.rows[at]
+        return _or_same(row.left, mark), _or_same(row.right, mark), row.add, row.more
 
     def without(self, at):
         """Return the book without the row with this number."""
-        if not _is_place(self.rows, at):
+        if not is_place(at, self.rows):
             raise NoRow(at)
         return Book(self.marks, self.counted, self.keeps, self.rows[:at] + self.rows[at + 1:])
 
@@ -85,6 +88,30 @@ class Book:
         keeps = [word for word in self.keeps if word not in asked]
         rows = [row for kind in asked for row in _asking_rows(self, kind)]
         return Book(self.marks, self.counted, keeps, [*rows, *self.rows])
+
+
+def row_at_step(rows, kind, mark):
+    """Return the number of the first row that fits a step, or None."""
+    for at, row in enumerate(rows):
+        if isinstance(row, Step) and row.kind == kind and _fits(row.old, mark):
+            return at
+    return None
+
+
+def row_at_join(rows, here, there):
+    """Return the number of the first row that fits a joining, or None."""
+    for at, row in enumerate(rows):
+        if isinstance(row, Join) and _fits(row.here, here) and _fits(row.there, there):
+            return at
+    return None
+
+
+def row_at_part(rows, mark):
+    """Return the number of the first row that fits a parting, or None."""
+    for at, row in enumerate(rows):
+        if isinstance(row, Part) and _fits(row.old, mark):
+            return at
+    return None
 
 
 def _refuse_wrong(marks, counted, keeps, rows):
@@ -121,11 +148,6 @@ def _lines(book):
     counted = " ".join(["counted", *book.counted])
     keeps = " ".join(["keeps", *book.keeps])
     return [marks, counted, keeps, *[str(row) for row in book.rows]]
-
-
-def _is_place(rows, at):
-    """Return whether a row has this number."""
-    return is_integer(at) and 0 <= at < len(rows)
 
 
 def _head(at, line):

@@ -1,6 +1,8 @@
-"""What a name, an integer and a sequence is, for any value."""
+"""What names, integers, numbers, sequences and faults are, for any value."""
 
 KEYWORDS = ("any", "by", "one", "same", "to")
+
+FAULTS = ("again", "apart", "false", "missed", "side", "stuck")
 
 
 def is_integer(value):
@@ -20,6 +22,26 @@ def is_sequence(value):
     return isinstance(value, (list, tuple))
 
 
-def all_differ(words):
-    """Return whether no string stands twice in the sequence."""
-    return len(set(words)) == len(words)
+def is_place(at, things):
+    """Return whether one of the things has this number."""
+    return is_integer(at) and 0 <= at < len(things)
+
+
+def is_number_word(word):
+    """Return whether the string writes a number as events write it."""
+    if not 1 <= len(word) <= 4 or not all(["0" <= letter <= "9" for letter in word]):
+        return False
+    return word == "0" or word[0] != "0"
+
+
+def all_differ(things):
+    """Return whether no string or integer stands twice in the sequence."""
+    return len(set(things)) == len(things)
+
+
+def split_words(text):
+    """Return the words between single spaces, a late kind as one word."""
+    words = text.split(" ")
+    if words[0] == "late":
+        return [" ".join(words[:2]), *words[2:]]
+    return words

@@ -1,6 +1,6 @@
 """The rows of a book: what becomes of a mark and of a total."""
 
-from forkpolls.checks import is_integer, is_name
+from forkpolls.checks import is_integer, is_name, split_words
 from forkpolls.errors import InvalidRow, InvalidText
 
 KINDS = ("yes", "no", "late yes", "late no", "word", "strike", "back", "cut")
@@ -106,21 +106,13 @@ def _row_with_text(text):
     if not isinstance(text, str):
         raise InvalidText(0)
     try:
-        row = _row_of_words(_split(text))
+        row = _row_of_words(split_words(text))
     except InvalidRow:
         raise InvalidText(0) from None
     # The words beside the arguments are compared here, all at once.
     if str(row) != text:
         raise InvalidText(0)
     return row
-
-
-def _split(text):
-    """Return the words of a row, a late kind as one word."""
-    words = text.split(" ")
-    if words[0] == "late":
-        return [" ".join(words[:2]), *words[2:]]
-    return words
 
 
 def _row_of_words(words):

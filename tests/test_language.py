@@ -1,6 +1,7 @@
 """The rules of ../shared/LANGUAGE.md that a plain look at the files can tell."""
 
 import ast
+import builtins
 import pathlib
 import unittest
 
@@ -24,6 +25,12 @@ BARRED = (ast.Global, ast.AsyncFunctionDef, ast.Import)
 # Where a class has `__eq__`, these take lists (L7).
 TAKE_LISTS = {"any", "all", "min", "max", "sum", "sorted"}
 
+# No names of variables, functions, classes, attributes or parameters (L17).
+NO_NAMES = {
+    "register", "mro", "elements", "open", "input", "law", "version_info", "with_traceback", "add_note", "exec", "eval", "type",
+    "id", "vars", "dir", "compile", "globals", "locals", "exit", "quit", "help", "os", "sys", "gc",
+}
+
 
 def nodes():
     """Return a list of the files and all parts of their syntax trees."""
@@ -38,6 +45,16 @@ def bound_names(tree):
     for node in ast.walk(tree):
         if isinstance(node, ast.ImportFrom):
             found |= {alias.name for alias in node.names}
+    return found
+
+
+def local_names(tree):
+    """Return all names of parameters and of variables in functions."""
+    found = set()
+    for node in ast.walk(tree):
+        if isinstance(node, ast.FunctionDef):
+            found |= {one.arg for one in ast.walk(node) if isinstance(one, ast.arg)}
+            found |= {one.id for one in ast.walk(node) if isinstance(one, ast.Name) and isinstance(one.ctx, ast.Store)}
     return found
 
 
@@ -88,6 +105,31 @@ class Language(unittest.TestCase):
         for path, node in nodes():
             if isinstance(node, ast.Call) and isinstance(node.func, ast.Name) and node.func.id in TAKE_LISTS:
                 self.assertFalse(any(isinstance(arg, ast.GeneratorExp) for arg in node.args), (path, node.lineno))
+
+    def test_locals_have_names_of_their_own(self):
+        for path in FILES:
+            tree = ast.parse(path.read_text("utf-8"))
+            taken = set(dir(builtins)) | NO_NAMES
+            taken |= {alias.name for node in tree.body if isinstance(node, ast.ImportFrom) for alias in node.names}
+            taken |= {node.name for node in tree.body if isinstance(node, ast.ClassDef)}
+            self.assertEqual(local_names(tree) & taken, set(), path)
+            named = [node.name for node in tree.body if isinstance(node, (ast.FunctionDef, ast.ClassDef))]
+            self.assertEqual(len(named), len(set(named)), path)
+            self.assertEqual(set(named) & (set(dir(builtins)) | NO_NAMES), set(), path)
+
+    def test_no_name_is_a_method_and_an_attribute(self):
+        methods = {
+            one.name for _, node in nodes() if isinstance(node, ast.ClassDef) for one in node.body if isinstance(one, ast.FunctionDef)}
+        assigned = {node.attr for _, node in nodes() if isinstance(node, ast.Attribute) and isinstance(node.ctx, ast.Store)}
+        self.assertEqual(methods & assigned, set())
+        self.assertEqual((methods | assigned) & NO_NAMES, set())
+
+    def test_is_stands_beside_none(self):
+        for path, node in nodes():
+            if isinstance(node, ast.Compare):
+                for kind, other in zip(node.ops, node.comparators):
+                    if isinstance(kind, (ast.Is, ast.IsNot)):
+                        self.assertTrue(isinstance(other, ast.Constant) and other.value is None, (path, node.lineno))
 
     def test_modules_hold_only_definitions(self):
         for path in FILES:
