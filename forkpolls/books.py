@@ -3,6 +3,7 @@
 from forkpolls.checks import all_differ, is_name, is_place, is_sequence
 from forkpolls.errors import InvalidBook, InvalidText, NoMark, NoRow
 from forkpolls.rows import Join, Part, Row, Step
+from forkpolls.tables import all_steps, join_table, part_table, rows_of
 
 EDITS = ("back", "cut", "join", "part", "word")
 
@@ -19,6 +20,11 @@ class Book:
         self.keeps = tuple(sorted(keeps))
         self.rows = tuple(rows)
         self.blank = marks[0]
+        # Books are asked for these far more often than they are made.
+        self.worth = {mark: 1 if mark in counted else 0 for mark in marks}
+        self.steps = all_steps(self.marks, rows)
+        self.joins = join_table(self.marks, rows_of(rows, "join"))
+        self.parts = part_table(self.marks, self.blank, rows_of(rows, "part"))
 
     def __eq__(self, other):
         return isinstance(other, Book) and str(self) == str(other)
@@ -52,29 +58,18 @@ class Book:
     def step(self, kind, mark):
         """Return what the mark becomes at this kind of step, and what is added."""
         _refuse_other_marks(self.marks, (mark,))
-        at = row_at_step(self.rows, kind, mark)
-        if at is None:
-            return mark, 0
-        row = self.rows[at]
-        return _or_same(row.then, mark), row.add
+        told = self.steps.get(kind)
+        return (mark, 0) if told is None else told[mark]
 
     def joined(self, here, there):
         """Return what two marks become at a joining, and what is added."""
         _refuse_other_marks(self.marks, (here, there))
-        at = row_at_join(self.rows, here, there)
-        if at is None:
-            return here, 0
-        row = self.rows[at]
-        return _of_both(row.then, here, there), row.add
+        return self.joins[(here, there)]
 
     def parted(self, mark):
         """Return what the mark becomes left and right, and what is added to both."""
         _refuse_other_marks(self.marks, (mark,))
-        at = row_at_part(self.rows, mark)
-        if at is None:
-            return mark, self.blank, 0, 0
-        row = self.rows[at]
-        return _or_same(row.left, mark), _or_same(row.right, mark), row.add, row.more
+        return self.parts[mark]
 
     def without(self, at):
         """Return the book without the row with this number."""
@@ -88,30 +83,6 @@ class Book:
         keeps = [word for word in self.keeps if word not in asked]
         rows = [row for kind in asked for row in _asking_rows(self, kind)]
         return Book(self.marks, self.counted, keeps, [*rows, *self.rows])
-
-
-def row_at_step(rows, kind, mark):
-    """Return the number of the first row that fits a step, or None."""
-    for at, row in enumerate(rows):
-        if isinstance(row, Step) and row.kind == kind and _fits(row.old, mark):
-            return at
-    return None
-
-
-def row_at_join(rows, here, there):
-    """Return the number of the first row that fits a joining, or None."""
-    for at, row in enumerate(rows):
-        if isinstance(row, Join) and _fits(row.here, here) and _fits(row.there, there):
-            return at
-    return None
-
-
-def row_at_part(rows, mark):
-    """Return the number of the first row that fits a parting, or None."""
-    for at, row in enumerate(rows):
-        if isinstance(row, Part) and _fits(row.old, mark):
-            return at
-    return None
 
 
 def _refuse_wrong(marks, counted, keeps, rows):
@@ -181,31 +152,10 @@ def _refuse_other_marks(marks, values):
             raise NoMark(value)
 
 
-def _fits(pattern, mark):
-    """Return whether a row with this pattern tells what becomes of the mark."""
-    return pattern == "any" or pattern == mark
-
-
-def _or_same(then, mark):
-    """Return the mark that a row tells by a name or by `same`."""
-    if then == "same":
-        return mark
-    return then
-
-
-def _of_both(then, here, there):
-    """Return the mark that a row tells by a name, by `one` or by `other`."""
-    if then == "one":
-        return here
-    if then == "other":
-        return there
-    return then
-
-
 def _asking_rows(book, kind):
     """Return the rows by which this kind of edit makes each mark the blank."""
     blank = book.blank
-    taken = {mark: -1 if mark in book.counted else 0 for mark in book.marks}
+    taken = {mark: -book.worth[mark] for mark in book.marks}
     if kind == "join":
         pairs = [(here, there) for here in book.marks for there in book.marks]
         return [Join(here, there, blank, taken[here] + taken[there]) for here, there in pairs]

@@ -1,17 +1,27 @@
 """Deciding about a book for all polls, voters, edits and deeds."""
 
-from forkpolls.books import row_at_join, row_at_part, row_at_step
 from forkpolls.checks import FAULTS, is_place
 from forkpolls.errors import InvalidFault, NoRow
-from forkpolls.leaps import Reach, are_side_by_side
-from forkpolls.rules import Rules
-from forkpolls.stories import story_of
+from forkpolls.events import LATE_DEEDS
+from forkpolls.looms import Loom
+from forkpolls.stories import story_of_standing, story_of_way
+from forkpolls.tables import rows_of
+from forkpolls.webs import places_of
+
+# The faults that are met by a step, and not by how voters stand behind it.
+OF_STEPS = ("again", "apart")
 
 
 def standings(book):
     """Return all standings that come about, with their least depths."""
-    least = Reach(Rules(book)).depths
-    return tuple(sorted([(standing, least[standing]) for standing in least]))
+    loom = Loom(book, FAULTS)
+    web = loom.woven({})
+    least = {}
+    for deep, layer in enumerate(web.layers(0)):
+        for place in places_of(layer & web.states):
+            least[place] = deep
+    # Places ascend as standings do.
+    return tuple([(loom.standing(place), least[place]) for place in sorted(least)])
 
 
 def happens(book, fault):
@@ -21,33 +31,39 @@ def happens(book, fault):
 
 def faults(book):
     """Return the faults that happen."""
-    reach = Reach(Rules(book))
-    return tuple([fault for fault in FAULTS if _least_meeting(reach, fault) is not None])
+    loom = Loom(book, FAULTS)
+    reached = sum(loom.woven({}).layers(0))
+    return tuple([fault for fault in FAULTS if (reached & loom.signs[fault]) != 0])
 
 
 def depth(book, fault):
     """Return the least depth of an option at which the fault is met, or None."""
     refuse_other_faults((fault,))
-    meeting = _least_meeting(Reach(Rules(book)), fault)
-    return None if meeting is None else meeting[0]
+    loom = Loom(book, (fault,))
+    layers = loom.woven({}).layers(loom.signs[fault])
+    if (layers[-1] & loom.signs[fault]) == 0:
+        return None
+    # What is met by how voters stand is noted behind the layer in which they do.
+    return len(layers) - (1 if fault in OF_STEPS else 2)
 
 
 def story(book, fault):
     """Return a story of least depth that meets the fault, or None."""
     refuse_other_faults((fault,))
-    reach = Reach(Rules(book))
-    meeting = _least_meeting(reach, fault)
-    if meeting is None:
-        return None
-    _, brought, leap = meeting
-    return story_of(reach.origins, brought, leap)
+    loom = Loom(book, FAULTS)
+    if fault in OF_STEPS:
+        return story_of_way(loom.woven({}), loom.signs[fault])
+    return story_of_standing(loom.woven({}), loom.signs[fault])
 
 
 def comes(book, at):
     """Return whether a row is done in some story."""
     if not is_place(at, book.rows):
         raise NoRow(at)
-    return any([_row_done(book, leap) == at for leap in Reach(Rules(book)).leaps])
+    row = book.rows[at]
+    kind = row.words[0]
+    ahead = rows_of(book.rows[:at], kind)
+    return any([row.fits(case) and not any([one.fits(case) for one in ahead]) for case in _cases(book, kind)])
 
 
 def refuse_other_faults(values):
@@ -57,38 +73,20 @@ def refuse_other_faults(values):
             raise InvalidFault()
 
 
-def _least_meeting(reach, fault):
-    """Return how a fault is met at the least depth; None if it never is.
-
-    This is the depth, the standings to which options have to be brought, and the
-    leap from these that meets it: None if they meet it side by side.
-    """
-    if fault == "side":
-        return _least_clash(reach)
-    for leap in reach.leaps:
-        if leap.meets(reach.rules, fault):
-            return reach.depth_behind(leap), leap.sources, leap
-    return None
+def _cases(book, kind):
+    """Return the tuples of marks for which a row of this kind is asked in some story."""
+    loom = Loom(book, ())
+    web = loom.woven({})
+    places = places_of(sum(web.layers(0)) & web.states)
+    found = [loom.standing(place) for place in places]
+    marks = {mark: True for mark, _, late in found if _can_come(kind, late)}
+    if kind == "join":
+        return [(here, there) for here in marks for there in marks]
+    return [(mark,) for mark in marks]
 
 
-def _least_clash(reach):
-    """Return how two options meet `side` at the least depth, or None."""
-    # Those that are found first are the least deep ones, so the latter one's depth
-    # is the greater one of both.
-    found = []
-    for there, deeper in reach.depths.items():
-        for here in found:
-            if are_side_by_side(here, there) and reach.rules.clash(here[0], there[0]):
-                return deeper, (here, there), None
-        found.append(there)
-    return None
-
-
-def _row_done(book, leap):
-    """Return the number of the row that tells of a leap; None if none does."""
-    marks = [standing[0] for standing in leap.sources]
-    if leap.kind == "join":
-        return row_at_join(book.rows, marks[0], marks[1])
-    if leap.kind == "part":
-        return row_at_part(book.rows, marks[0])
-    return row_at_step(book.rows, leap.kind, marks[0])
+def _can_come(kind, late):
+    """Return whether steps of this kind come about where late deeds are such."""
+    if kind in LATE_DEEDS:
+        return late in ("kept", "broken")
+    return (kind == "back") == (late == "gone")

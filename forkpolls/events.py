@@ -7,6 +7,8 @@ DEEDS = ("yes", "no", "late yes", "late no")
 
 LATE_DEEDS = ("late yes", "late no")
 
+EDITS_OF_OPTIONS = ("word", "strike", "back", "join", "part")
+
 # How many new options these edits make.
 MAKES = {"join": 1, "part": 2}
 
@@ -44,6 +46,13 @@ class Course:
         if kind in DEEDS or kind == "cut":
             return self._voter_move(kind, numbers[0], numbers[1])
         return self._edit(kind, numbers)
+
+    def copied(self):
+        """Return another course that goes on from here."""
+        twin = Course(self.voters, 0)
+        twin.edits = list(self.edits)
+        twin.heirs = list(self.heirs)
+        return twin
 
     def is_in(self, option):
         """Return whether the option is in the poll."""
@@ -93,15 +102,14 @@ class Course:
         return made
 
 
-def moves_of(voters, options, events):
-    """Return the move of each event; InvalidEvent for the first wrong one."""
+def moves_of(course, events, kinds):
+    """Return the moves of events of these kinds; InvalidEvent for the first thing that is none, or not possible."""
     if not is_sequence(events):
         raise InvalidEvent(0)
-    course = Course(voters, options)
     moves = []
     for at, event in enumerate(events):
         move = course.move(event)
-        if move is None:
+        if move is None or move[0] not in kinds:
             raise InvalidEvent(at)
         moves.append(move)
     return moves

@@ -1,17 +1,20 @@
 """Papers: standings by which anybody can check that a fault never happens."""
 
-from forkpolls.deciding import happens, refuse_other_faults, standings
-from forkpolls.leaps import are_side_by_side, leaps_with
-from forkpolls.rules import Rules
-
-LATES = ("", "kept", "broken", "gone")
+from forkpolls.checks import FAULTS
+from forkpolls.deciding import refuse_other_faults
+from forkpolls.looms import Loom
+from forkpolls.webs import LATES, places_of
 
 
 def paper(book, fault):
     """Return a right paper for the fault; None if it happens."""
-    if happens(book, fault):
+    refuse_other_faults((fault,))
+    loom = Loom(book, FAULTS)
+    web = loom.woven({})
+    reached = sum(web.layers(0))
+    if (reached & loom.signs[fault]) != 0:
         return None
-    return tuple([standing for standing, _ in standings(book)])
+    return tuple([loom.standing(place) for place in places_of(reached & web.states)])
 
 
 def paper_holds(book, fault, value):
@@ -19,12 +22,14 @@ def paper_holds(book, fault, value):
     refuse_other_faults((fault,))
     if not isinstance(value, tuple) or not all([_is_standing(book, one) for one in value]):
         return False
-    rules = Rules(book)
-    listed = sorted(set(value))
-    if rules.start not in listed or _meet(rules, fault, listed):
-        return False
-    leaps = leaps_with(rules, listed, listed)
-    return all([leap.behind in listed and not leap.meets(rules, fault) for leap in leaps])
+    loom = Loom(book, FAULTS)
+    web = loom.woven({})
+    held = 0
+    for standing in value:
+        held = held | (1 << loom.place(standing))
+    # All that is behind has to be there, but for the signs of the other faults.
+    missing = web.all_behind(held, []) & ~held & (web.states | loom.signs[fault])
+    return (held & web.start) != 0 and missing == 0
 
 
 def _is_standing(book, value):
@@ -33,11 +38,3 @@ def _is_standing(book, value):
         return False
     mark, known, late = value
     return mark in book.marks and isinstance(known, bool) and late in LATES
-
-
-def _meet(rules, fault, listed):
-    """Return whether a standing, or two of them side by side, meet the fault."""
-    if any([rules.shows(fault, standing) for standing in listed]):
-        return True
-    pairs = [(here, there) for here in listed for there in listed if are_side_by_side(here, there)]
-    return fault == "side" and any([rules.clash(here[0], there[0]) for here, there in pairs])

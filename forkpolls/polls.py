@@ -1,14 +1,16 @@
 """Polls: what events make of the marks of voters and of the totals of options."""
 
-from forkpolls.events import moves_of
-from forkpolls.rules import Rules
-from forkpolls.tallies import Tally
+from forkpolls.checks import is_sequence
+from forkpolls.errors import InvalidEvent
+from forkpolls.events import FORMS, Course, moves_of
+from forkpolls.running import Running
 
 
 class Played:
     """What has become of a poll behind its events."""
 
-    def __init__(self, tally, met):
+    def __init__(self, running):
+        tally = running.tally
         options = range(len(tally.totals))
         self.poll = tuple(tally.options_in())
         self.marks = tuple([_of_each(standings, 0) for standings in tally.standings])
@@ -16,27 +18,23 @@ class Played:
         self.totals = tuple(tally.totals)
         self.counts = tuple([tally.counted_at(option) for option in options])
         self.now = tuple(tally.met_now())
-        self.met = met
+        self.met = tuple(sorted(list(running.met)))
 
 
 def play(book, voters, options, events):
     """Return what becomes of a poll by a book."""
-    moves = moves_of(voters, options, events)
-    tally = Tally(Rules(book), voters, options)
-    met = {fault: True for fault, _ in tally.met_now()}
-    for move in moves:
-        tally.take(move)
-        # A fault that was not met before is met where the move came to.
-        for _, option in move[2]:
-            for fault in tally.met_at(option):
-                met[fault] = True
-    return Played(tally, tuple(sorted(met)))
+    if not is_sequence(events):
+        raise InvalidEvent(0)
+    running = Running(book, voters, options)
+    for event in events:
+        running.take(event)
+    return Played(running)
 
 
 def depths(voters, options, events):
     """Return for each voter the depths of all options."""
     deep = [[0] * options for _ in range(voters)]
-    for _, voter, ways in moves_of(voters, options, events):
+    for _, voter, ways in moves_of(Course(voters, options), events, list(FORMS)):
         for at in range(voters):
             if voter in (None, at):
                 _deepen(deep[at], ways)

@@ -30,6 +30,11 @@ class Row:
         # The first word is never a mark, although some kinds look like names.
         return tuple([word for word in self.words[1:] if is_name(word)])
 
+    def fits(self, marks):
+        """Return whether the row tells what becomes of these marks, in their order."""
+        olds = self.words[1:self.words.index("to")]
+        return all([old == "any" or old == mark for old, mark in zip(olds, marks)])
+
 
 class Step(Row):
     """At this kind of step a mark becomes another one."""

@@ -1,31 +1,27 @@
-"""What a book tells of one voter at one option, looked up once for all marks.
+"""What a book tells of one voter at one option.
 
 A standing is a triple (mark, known, late): the voter's mark, whether the last word
 about the option was yes, and what late deeds can come to it ("" for none, "kept" or
 "broken" as the book keeps the option's last edit, "gone" while it is struck).
 """
 
-from forkpolls.rows import KINDS
-
 
 class Rules:
     """What becomes of standings by a book, and which faults they meet."""
 
     def __init__(self, book):
-        marks = book.marks
         self.start = (book.blank, False, "")
-        self.marks = marks
         self.keeps = book.keeps
-        self.worth = {mark: 1 if mark in book.counted else 0 for mark in marks}
-        self.steps = {(kind, mark): book.step(kind, mark) for kind in KINDS for mark in marks}
-        self.joins = {(here, there): book.joined(here, there) for here in marks for there in marks}
-        self.parts = {mark: book.parted(mark) for mark in marks}
-        self.stuck = _stuck_marks(marks, self.worth, self.steps)
+        self.worth = book.worth
+        self.steps = book.steps
+        self.joins = book.joins
+        self.parts = book.parts
+        self.stuck = stuck_marks(book.marks, book.worth, book.steps)
 
     def behind_step(self, kind, standing):
         """Return the standing behind a step of this kind, and what is added."""
         mark, known, late = standing
-        then, add = self.steps[(kind, mark)]
+        then, add = self.steps[kind][mark]
         return (then, self._known_behind(kind, known, late), self._late_behind(kind, late)), add
 
     def behind_join(self, here, there):
@@ -55,7 +51,7 @@ class Rules:
 
     def repeats(self, deed, mark):
         """Return whether the same deed once more would do something."""
-        return self.steps[(deed, mark)] != (mark, 0)
+        return self.steps[deed][mark] != (mark, 0)
 
     def clash(self, here, there):
         """Return whether it matters which one of two marks is joined to the other."""
@@ -79,7 +75,7 @@ class Rules:
         return "" if kind == "back" else late
 
 
-def _stuck_marks(marks, worth, steps):
+def stuck_marks(marks, worth, steps):
     """Return the marks from which no deeds lead to one that is not counted."""
     free = [mark for mark in marks if worth[mark] == 0]
     for _ in marks:
@@ -89,4 +85,4 @@ def _stuck_marks(marks, worth, steps):
 
 def _leads_to(steps, mark, free):
     """Return whether a `yes` or a `no` makes one of these of the mark."""
-    return steps[("yes", mark)][0] in free or steps[("no", mark)][0] in free
+    return steps["yes"][mark][0] in free or steps["no"][mark][0] in free

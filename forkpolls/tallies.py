@@ -23,6 +23,15 @@ class Tally:
         for option in range(options):
             self._put(option, (rules.start,) * voters, 0)
 
+    def copied(self):
+        """Return another tally that goes on from here."""
+        twin = Tally(self.rules, 0, 0)
+        twin.standings = list(self.standings)
+        twin.totals = list(self.totals)
+        twin.last = self.last
+        twin.crowd = {marks: self.crowd[marks] for marks in self.crowd}
+        return twin
+
     def take(self, move):
         """Do a move, as a course told it."""
         kind, voter, ways = move
@@ -50,11 +59,15 @@ class Tally:
     def met_at(self, option):
         """Return the faults that are met at the option."""
         standings = self.standings[option]
-        met = ["apart"] if self.totals[option] != self.counted_at(option) else []
+        met = []
+        if self.totals[option] != self.counted_at(option):
+            met.append("apart")
         if _is_in(standings):
             met.extend([fault for fault in JUDGED_ALONE if self._is_shown(fault, standings)])
-            met.extend(["again"] if self._is_again(option) else [])
-            met.extend(["side"] if self._is_side(_marks(standings)) else [])
+            if self._is_again(option):
+                met.append("again")
+            if self._is_side(_marks(standings)):
+                met.append("side")
         return met
 
     def met_now(self):

@@ -126,6 +126,18 @@ class LeastAsks(Asking):
             for kinds in itertools.combinations(EDITS, many):
                 self.assert_asked(GOOD.asking(kinds), ["false", "missed"])
 
+    def test_one_edit_alone_that_does_harm(self):
+        # Each row is wrong in its own way, and voters asked at its edit never come to it.
+        for kind, rows in {
+            "back": ("back a to b by 0",), "cut": ("cut a to b by 0",), "word": ("word a to a by 1", "word a to b by 0"),
+            "join": ("join a a to b by 0", "join any any to one by -1"),
+            "part": ("part a to b a by 0 0", "part a to a b by 0 0", "part a to a a by 0 1", "part a to a a by 1 0"),
+        }.items():
+            for row in rows:
+                self.assertEqual(least_asks(book_of(row), ["apart"]), ((kind,),))
+                self.assert_asked(book_of(row), ["apart"])
+                self.assert_asked(book_of(row), FAULTS)
+
 
 class Rows(Asking):
     def test_needless_rows(self):

@@ -11,7 +11,7 @@ FILES = sorted((ROOT / "forkpolls").rglob("*.py"))
 BUILTINS = {
     "len", "range", "enumerate", "zip", "min", "max", "sum", "abs", "sorted", "reversed", "int", "str", "bool", "list",
     "tuple", "dict", "set", "isinstance", "ord", "repr", "any", "all", "divmod", "ValueError", "TypeError", "KeyError",
-    "IndexError", "classmethod", "property",
+    "IndexError", "RuntimeError", "classmethod", "property",
 }
 
 LIBRARY = {"heapq", "math", "itertools", "collections"}
@@ -42,6 +42,7 @@ def bound_names(tree):
     found = {node.id for node in ast.walk(tree) if isinstance(node, ast.Name) and isinstance(node.ctx, ast.Store)}
     found |= {node.arg for node in ast.walk(tree) if isinstance(node, ast.arg)}
     found |= {node.name for node in ast.walk(tree) if isinstance(node, (ast.FunctionDef, ast.ClassDef))}
+    found |= {node.name for node in ast.walk(tree) if isinstance(node, ast.ExceptHandler) and node.name}
     for node in ast.walk(tree):
         if isinstance(node, ast.ImportFrom):
             found |= {alias.name for alias in node.names}
@@ -109,7 +110,8 @@ class Language(unittest.TestCase):
     def test_locals_have_names_of_their_own(self):
         for path in FILES:
             tree = ast.parse(path.read_text("utf-8"))
-            taken = set(dir(builtins)) | NO_NAMES
+            # Examples that were run leave their last result among the builtins.
+            taken = (set(dir(builtins)) - {"_"}) | NO_NAMES
             taken |= {alias.name for node in tree.body if isinstance(node, ast.ImportFrom) for alias in node.names}
             taken |= {node.name for node in tree.body if isinstance(node, ast.ClassDef)}
             self.assertEqual(local_names(tree) & taken, set(), path)
