@@ -20,7 +20,8 @@ class Group:
         both = {}
         for here, ones in self.choices.items():
             for there, others in other.choices.items():
-                both[(*here, *there)] = [(*one, *more) for one in ones for more in others]
+                standing = (*here, *there)
+                both[standing] = [(*one, *more) for one in ones for more in others]
         return Group((*self.options, *other.options), both)
 
     def behind(self, book, kind, ways):

@@ -37,6 +37,25 @@ def nodes():
     return [(path, node) for path in FILES for node in ast.walk(ast.parse(path.read_text("utf-8")))]
 
 
+def has_star(tree):
+    """Return whether `*` or `**` stands anywhere in a tree."""
+    return any(isinstance(node, ast.Starred) or isinstance(node, ast.keyword) and node.arg is None
+               or isinstance(node, ast.Dict) and None in node.keys for node in ast.walk(tree))
+
+
+def barred_stars(tree):
+    """Return the lines where a star stands in an index or a set literal, or before a generator expression."""
+    found = []
+    for node in ast.walk(tree):
+        if isinstance(node, ast.Subscript) and has_star(node.slice):
+            found.append(node.lineno)
+        elif isinstance(node, ast.Set) and any(isinstance(item, ast.Starred) for item in node.elts):
+            found.append(node.lineno)
+        elif isinstance(node, ast.Starred) and isinstance(node.value, ast.GeneratorExp):
+            found.append(node.lineno)
+    return found
+
+
 def bound_names(tree):
     """Return all names that a tree binds, at whatever depth."""
     found = {node.id for node in ast.walk(tree) if isinstance(node, ast.Name) and isinstance(node.ctx, ast.Store)}
@@ -101,6 +120,21 @@ class Language(unittest.TestCase):
                 self.assertNotIsInstance(node.value, (float, complex), path)
             if isinstance(node, ast.BinOp):
                 self.assertNotIsInstance(node.op, ast.Div, path)
+
+    def test_no_star_in_an_index_or_a_set_or_over_a_generator(self):
+        for path in FILES:
+            self.assertEqual(barred_stars(ast.parse(path.read_text("utf-8"))), [], path)
+
+    def test_barred_stars_are_seen(self):
+        for text in (
+                "d[(*a, *b)] = c", "c = d[(*a, *b)]", "del d[(*a,)]", "d[*a]", "d[*a, 1]", "d[(1, (*a,))]", "d[0][(*a, 1)] += 1",
+                "d[1:max(*a)]", "d[f(**a)]", "d[len({**a})]", "[d[(*a, b)] for b in c]", "x = {*a}", "x = {1, *a}",
+                "x = [*(b for b in a)]", "f(*(b for b in a))"):
+            self.assertEqual(barred_stars(ast.parse(text)), [1], text)
+        for text in (
+                "e = (*a, *b)\nd[e] = c", "d[a] = [(*b, *c) for e in d]", "x = [*a, 1]", "x = (*d[a], *b)", "x = *a, 1",
+                "x = {**a, 'a': 1}", "f(*a)", "f(**a)", "a, *b = c", "x = {1, 2}", "[*[b for b in a]]", "d[1:2]"):
+            self.assertEqual(barred_stars(ast.parse(text)), [], text)
 
     def test_lists_instead_of_generator_expressions(self):
         for path, node in nodes():
